@@ -1,0 +1,76 @@
+"""The names, arguments and places that the interface of the document lists."""
+
+import ast
+import importlib
+import inspect
+import pathlib
+import unittest
+
+import oddlines
+from oddlines import bounds, errors
+
+FUNCTIONS = {
+    "webs": {
+        "web_error": ["value"],
+        "numbers": ["web"],
+        "has_line": ["web", "a", "b"],
+        "contrary": ["web"],
+        "renamed": ["web", "order"],
+        "one_more": ["web", "is_tied"],
+    },
+}
+BOUNDS = {
+    "MAX_PEOPLE": 10,
+    "MAX_SPREAD": 7,
+    "MAX_COUNTED": 1000,
+    "MAX_DEEDS": 20000,
+    "MAX_EDITS": 40,
+}
+ERRORS = [
+    "Unfit", "BadText", "BadWeb", "Refused", "Apart", "TooMany", "TooManyEdits",
+    "NothingToUndo", "NothingToRedo", "NoVersion", "BadLog",
+]
+
+
+def defined_in(file, kind):
+    """The names that statements of this kind define at the top of a file of the package."""
+    path = pathlib.Path(oddlines.__file__).parent / file
+    return [node.name for node in ast.parse(path.read_text()).body if isinstance(node, kind)]
+
+
+class Interface(unittest.TestCase):
+
+    def test_bounds(self):
+        for name, wanted in BOUNDS.items():
+            self.assertIs(type(getattr(bounds, name)), int, name)
+            self.assertEqual(getattr(bounds, name), wanted, name)
+
+    def test_functions_take_the_arguments_told_in_the_order_told(self):
+        for module, functions in FUNCTIONS.items():
+            for name, wanted in functions.items():
+                told = getattr(importlib.import_module("oddlines." + module), name)
+                kinds = inspect.signature(told).parameters.values()
+                self.assertEqual([kind.name for kind in kinds], wanted, name)
+                for kind in kinds:
+                    self.assertEqual(kind.kind, inspect.Parameter.POSITIONAL_OR_KEYWORD, name)
+                    self.assertEqual(kind.default, inspect.Parameter.empty, name)
+
+    def test_functions_are_defined_where_they_are_listed(self):
+        for module, functions in FUNCTIONS.items():
+            defined = defined_in(module + ".py", ast.FunctionDef)
+            for name in functions:
+                self.assertIn(name, defined)
+
+    def test_errors_are_defined_where_they_are_listed_and_no_others(self):
+        self.assertEqual(sorted(defined_in("errors.py", ast.ClassDef)), sorted(["OddError"] + ERRORS))
+        for name in ["OddError"] + ERRORS:
+            self.assertTrue(inspect.isclass(getattr(errors, name)), name)
+
+    def test_the_package_holds_only_python_files(self):
+        folder = pathlib.Path(oddlines.__file__).parent
+        others = [path.name for path in folder.iterdir() if path.suffix != ".py"]
+        self.assertEqual([name for name in others if name != "__pycache__"], [])
+
+
+if __name__ == "__main__":
+    unittest.main()
