@@ -1,4 +1,4 @@
-"""What several test files use: webs to try, and a comparison in which True is not 1."""
+"""What several test files use: webs and rows to try, values of all kinds, and a comparison in which True is not 1."""
 
 import itertools
 import random
@@ -56,6 +56,64 @@ def orders_to_try(many):
     return orders + [tuple(chance.sample(range(many), many)) for _ in range(3)]
 
 
+def all_rows(many):
+    return list(itertools.product(range(many), repeat=many))
+
+
+def sample_rows(many, count):
+    """Rows of so many numbers, the same each time: of any numbers, and close to those of webs."""
+    chance = random.Random(200 + many)
+    rows = [(number,) * many for number in range(many)]
+    rows += [tuple(chance.randrange(many) for _ in range(many)) for _ in range(count)]
+    for web in sample_webs(many, count):
+        row = list(told_numbers(web))
+        rows.append(tuple(row))
+        for _ in range(2):
+            person = chance.randrange(many)
+            row[person] = max(0, min(many - 1, row[person] + chance.choice((-1, 1))))
+            rows.append(tuple(row))
+    return rows
+
+
+def rows_to_try():
+    """All rows of 2 to 4 numbers, and some of each size from 5 to 10."""
+    rows = [row for many in range(2, 5) for row in all_rows(many)]
+    return rows + [row for many in range(5, 11) for row in sample_rows(many, 60)]
+
+
+def told_numbers(web):
+    """The numbers of a web, counted line by line and not by the package."""
+    row = [0] * web[0]
+    for a, b in web[1]:
+        row[a] += 1
+        row[b] += 1
+    return tuple(row)
+
+
+def is_web(value):
+    """Whether value is a web, by the words of the document."""
+    many, lines = value
+    pairs = [repr(pair) for pair in all_pairs(many)]
+    names = [repr(line) for line in lines]
+    return type(value) is tuple and type(lines) is tuple and names == [pair for pair in pairs if pair in names]
+
+
+def values_of_all_kinds():
+    """Values that are no strings and no tuples of much sense, made anew at each call."""
+    return [
+        None, True, False, 0, 1, -1, 4, 10 ** 399, -(10 ** 399), b"", b"4: none", (), (None,), (True,), (0, 1),
+        (0, (1,)), ((), ()), ((0,), [1]), [], [0, 1], [(0,), (1,)], {}, {"a": [1]}, {0: 1}, {(0, 1): ()},
+        nested(20), tuple(range(4000)), STAR, list(PAIR),
+    ]
+
+
+def strings_of_all_kinds():
+    return [
+        "", " ", "a", "0", "4", "none", "None", "odd", "odd ", "Odd", "draw", "two\nlines", "\n", "()", "(4, ())",
+        "x" * 20000, "0" * 20000, "9" * 20000, " " * 20000, "\n" * 20000, ": " * 10000,
+    ]
+
+
 def nested(depth):
     value = 7
     for step in range(depth):
@@ -65,7 +123,7 @@ def nested(depth):
 
 class Case(unittest.TestCase):
 
-    def assertSame(self, got, wanted):
+    def assertSame(self, got, wanted, about=None):
         """Equal, and of equal kinds throughout: 1 is not True, a list is no tuple."""
-        self.assertEqual(got, wanted)
-        self.assertEqual(repr(got), repr(wanted))
+        self.assertEqual(got, wanted, about)
+        self.assertEqual(repr(got), repr(wanted), about)

@@ -18,6 +18,14 @@ FUNCTIONS = {
         "renamed": ["web", "order"],
         "one_more": ["web", "is_tied"],
     },
+    "webtexts": {"web_text": ["web"], "read_web": ["value"]},
+    "rows": {
+        "row_error": ["many", "value"],
+        "web_with": ["row"],
+        "is_webs": ["row"],
+        "level_of": ["row"],
+    },
+    "bars": {"bar": ["row"], "bar_error": ["row", "value"]},
 }
 BOUNDS = {
     "MAX_PEOPLE": 10,
