@@ -1,6 +1,7 @@
 """Rows of numbers: which of them are the numbers of a web, and their levels."""
 
 from oddlines.kinds import is_int_between
+from oddlines.webs import line_between
 
 
 def row_error(many, value):
@@ -28,11 +29,6 @@ def laid_off(wanted, person, ties):
     return left
 
 
-def lines_to(person, ties):
-    """Return the lines between person and all of ties, in any order."""
-    return [(min(person, other), max(person, other)) for other in ties]
-
-
 def lines_with(wanted):
     """Return lines with which each person has as many as wanted, in any order; None if there are none."""
     left = list(wanted)
@@ -44,7 +40,7 @@ def lines_with(wanted):
         if ties is None:
             return None
         left = laid_off(left, person, ties)
-        lines = lines + lines_to(person, ties)
+        lines = lines + [line_between(person, other) for other in ties]
     return lines
 
 

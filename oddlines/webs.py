@@ -37,9 +37,14 @@ def numbers(web):
     return tuple([len([line for line in lines if person in line]) for person in range(many)])
 
 
+def line_between(a, b):
+    """Return the line between a and b as it stands in a web: the lesser one first."""
+    return (a, b) if a < b else (b, a)
+
+
 def has_line(web, a, b):
     """Return whether there is a line between a and b, either way round."""
-    return (min(a, b), max(a, b)) in web[1]
+    return line_between(a, b) in web[1]
 
 
 def contrary(web):

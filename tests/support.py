@@ -90,6 +90,75 @@ def told_numbers(web):
     return tuple(row)
 
 
+def told_odd_set(web):
+    """The odd set of a web, counted line by line and not by the package."""
+    row = told_numbers(web)
+    return tuple(number for number in range(web[0]) if row.count(number) % 2)
+
+
+def is_odd_set(many, chosen):
+    """The four points of [E1], of a tuple of integers."""
+    items = list(chosen)
+    return (
+        items == sorted(set(items)) and all(0 <= item < many for item in items)
+        and (len(items) - many) % 2 == 0 and sum(items) % 2 == 0 and not {0, many - 1} <= set(items)
+    )
+
+
+def all_odd_sets(many):
+    sizes = range(many + 1)
+    chosen = [some for size in sizes for some in itertools.combinations(range(many), size)]
+    return sorted(some for some in chosen if is_odd_set(many, some))
+
+
+def all_deeds(many):
+    """All tuples that have the form of a deed of so many people, ascending."""
+    deeds = [(word, a, b) for word in ("draw", "strike") for a, b in all_pairs(many)]
+    return sorted(deeds + [("exchange", *four) for four in itertools.permutations(range(many), 4)])
+
+
+def told_can(web, deed):
+    """Whether deed, of the right form, can be done in web, by the words of [C1]."""
+    word, people = deed[0], deed[1:]
+    lines = [frozenset(line) for line in web[1]]
+    if word == "exchange":
+        a, b, c, d = people
+        there = [frozenset(two) in lines for two in ((a, b), (c, d), (a, c), (b, d))]
+        return there == [True, True, False, False]
+    row = told_numbers(web)
+    return row[people[0]] == row[people[1]] and (frozenset(people) in lines) == (word == "strike")
+
+
+def told_done(web, deed):
+    """The web behind deed, which can be done, by the words of [C1]."""
+    word, people = deed[0], deed[1:]
+    lines = set(web[1])
+    if word == "draw":
+        lines.add(people)
+    elif word == "strike":
+        lines.remove(people)
+    else:
+        a, b, c, d = people
+        for x, y in ((a, b), (c, d)):
+            lines.remove((min(x, y), max(x, y)))
+        for x, y in ((a, c), (b, d)):
+            lines.add((min(x, y), max(x, y)))
+    return (web[0], tuple(sorted(lines)))
+
+
+def run_from(web, count, seed):
+    """A tuple of at most count deeds that can be done from web on, and the webs on the way, web first."""
+    chance = random.Random(seed)
+    some, webs = [], [web]
+    for _ in range(count):
+        word = chance.choice(("draw", "strike", "exchange", "exchange"))
+        deeds = [deed for deed in all_deeds(web[0]) if deed[0] == word and told_can(webs[-1], deed)]
+        if deeds:
+            some.append(chance.choice(deeds))
+            webs.append(told_done(webs[-1], some[-1]))
+    return tuple(some), webs
+
+
 def is_web(value):
     """Whether value is a web, by the words of the document."""
     many, lines = value

@@ -26,6 +26,30 @@ FUNCTIONS = {
         "level_of": ["row"],
     },
     "bars": {"bar": ["row"], "bar_error": ["row", "value"]},
+    "deeds": {
+        "deed_error": ["web", "value"],
+        "done": ["web", "deed"],
+        "led": ["web", "some"],
+        "draws": ["web"],
+        "strikes": ["web"],
+        "exchanges": ["web"],
+        "back": ["deed"],
+        "turned": ["some"],
+    },
+    "deedtexts": {"deeds_text": ["some"], "read_deeds": ["value"]},
+    "exchanging": {
+        "by_exchanges": ["one", "other"],
+        "without_line": ["row", "a", "b"],
+        "with_line": ["row", "a", "b"],
+    },
+    "oddsets": {
+        "odd_set": ["web"],
+        "set_error": ["many", "value"],
+        "set_count": ["many"],
+        "set_at": ["many", "number"],
+        "number_of_set": ["many", "chosen"],
+        "web_for": ["many", "chosen"],
+    },
 }
 BOUNDS = {
     "MAX_PEOPLE": 10,
