@@ -57,6 +57,18 @@ def is_webs(row):
     return lines_with(row) is not None
 
 
+def row_held(row, held):
+    """Return a row of the numbers of row in which each person in held, a dict, has the number that stands there."""
+    left = list(row)
+    for person in held:
+        left.remove(held[person])
+    told = dict(held)
+    for person in range(len(row)):
+        if person not in told:
+            told[person] = left.pop()
+    return tuple([told[person] for person in range(len(row))])
+
+
 def level_of(row):
     """Return the level of row."""
     ranks = sorted(row, reverse=True)

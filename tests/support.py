@@ -1,8 +1,11 @@
 """What several test files use: webs and rows to try, values of all kinds, and a comparison in which True is not 1."""
 
+import functools
 import itertools
 import random
 import unittest
+
+from oddlines.errors import Unfit
 
 SQUARE = (4, ((0, 1), (0, 3), (1, 2), (2, 3)))
 STAR = (4, ((0, 1), (0, 2), (0, 3)))
@@ -146,6 +149,61 @@ def told_done(web, deed):
     return (web[0], tuple(sorted(lines)))
 
 
+def is_lot(many, value):
+    if type(value) is not tuple:
+        return False
+    right = [repr(person) for person in range(many)]
+    names = [repr(item) for item in value]
+    return names == [name for name in right if name in names]
+
+
+def told_bar_error(row, value):
+    """What [B3] tells of a bar; people are compared by repr, so True is not 1."""
+    many = len(row)
+    if repr(value) == repr("odd"):
+        return None if sum(row) % 2 else "even"
+    if type(value) is not tuple or len(value) != 2 or not (is_lot(many, value[0]) and is_lot(many, value[1])):
+        return "form"
+    high, low = value
+    if [person for person in high if person in low]:
+        return "form"
+    asked = sum(row[person] for person in high) - sum(row[person] for person in low)
+    return None if asked > len(high) * (many - 1 - len(low)) else "little"
+
+
+def told_is_webs(row):
+    """Whether a row is a web's, by the bounds of Erdos and Gallai."""
+    ranks = sorted(row, reverse=True)
+    if sum(ranks) % 2:
+        return False
+    sizes = range(1, len(ranks) + 1)
+    return all(sum(ranks[:k]) <= k * (k - 1) + sum(min(d, k) for d in ranks[k:]) for k in sizes)
+
+
+@functools.cache
+def told_spreads(many):
+    """The rows of all webs of so many people, their numbers descending, by their odd sets."""
+    found = {}
+    for row in itertools.combinations_with_replacement(range(many - 1, -1, -1), many):
+        if told_is_webs(row):
+            chosen = tuple(number for number in range(many) if row.count(number) % 2)
+            found.setdefault(chosen, []).append(row)
+    return found
+
+
+@functools.cache
+def told_locked(many, chosen):
+    """The locked numbers of an odd set, by the rows of all webs."""
+    rows = told_spreads(many)[chosen]
+    return tuple(number for number in chosen if all(row.count(number) < 3 for row in rows))
+
+
+def told_class(web):
+    """What class_of is to tell, by the rows of all webs."""
+    row, chosen = told_numbers(web), told_odd_set(web)
+    return (web[0], chosen, tuple(row.index(number) for number in told_locked(web[0], chosen)))
+
+
 def run_from(web, count, seed):
     """A tuple of at most count deeds that can be done from web on, and the webs on the way, web first."""
     chance = random.Random(seed)
@@ -196,3 +254,8 @@ class Case(unittest.TestCase):
         """Equal, and of equal kinds throughout: 1 is not True, a list is no tuple."""
         self.assertEqual(got, wanted, about)
         self.assertEqual(repr(got), repr(wanted), about)
+
+    def assertUnfit(self, call, *args):
+        with self.assertRaises(Unfit, msg=repr(args)[:80]) as caught:
+            call(*args)
+        self.assertIs(type(caught.exception), Unfit)

@@ -8,30 +8,8 @@ from oddlines.bars import bar, bar_error
 from oddlines.rows import is_webs, web_with
 from support import (
     Case, all_rows, all_webs, is_web, nested, rows_to_try, sample_rows, sample_webs, strings_of_all_kinds,
-    told_numbers, values_of_all_kinds,
+    told_bar_error, told_numbers, values_of_all_kinds,
 )
-
-
-def is_lot(many, value):
-    if type(value) is not tuple:
-        return False
-    right = [repr(person) for person in range(many)]
-    names = [repr(item) for item in value]
-    return names == [name for name in right if name in names]
-
-
-def told_error(row, value):
-    """What [B3] tells; people are compared by repr, so True is not 1."""
-    many = len(row)
-    if repr(value) == repr("odd"):
-        return None if sum(row) % 2 else "even"
-    if type(value) is not tuple or len(value) != 2 or not (is_lot(many, value[0]) and is_lot(many, value[1])):
-        return "form"
-    high, low = value
-    if [person for person in high if person in low]:
-        return "form"
-    asked = sum(row[person] for person in high) - sum(row[person] for person in low)
-    return None if asked > len(high) * (many - 1 - len(low)) else "little"
 
 
 def all_lots(many):
@@ -80,7 +58,7 @@ class JustOne(Case):
             self.assertSame(told_numbers(web), row)
         else:
             self.assertIsNone(web)
-            self.assertIsNone(told_error(row, told), (row, told))
+            self.assertIsNone(told_bar_error(row, told), (row, told))
             self.assertIsNone(bar_error(row, told), (row, told))
 
     def test_all_rows_of_few_numbers(self):
@@ -126,7 +104,7 @@ class JustOne(Case):
             told = bar(row)
             if told is not None and sum(row) % 2 == 0:
                 self.assertEqual(len(told), 2)
-                self.assertIsNone(told_error(row, told))
+                self.assertIsNone(told_bar_error(row, told))
 
 
 class Orders(Case):
@@ -137,7 +115,7 @@ class Orders(Case):
                 told = bar(order)
                 self.assertIs(told is None, bar(row) is None)
                 if told is not None:
-                    self.assertIsNone(told_error(order, told))
+                    self.assertIsNone(told_bar_error(order, told))
 
     def test_contrary_numbers_have_the_bar_turned_about(self):
         for row in rows_to_try():
@@ -151,7 +129,7 @@ class Orders(Case):
         for row in all_rows(4):
             other = tuple(3 - number for number in row)
             for high, low in all_lots(4):
-                self.assertSame(bar_error(row, (high, low)), told_error(row, (high, low)))
+                self.assertSame(bar_error(row, (high, low)), told_bar_error(row, (high, low)))
                 self.assertSame(bar_error(other, (low, high)), bar_error(row, (high, low)))
 
 
@@ -179,7 +157,7 @@ class BarError(Case):
         for row in ((2, 0, 0), (1, 1, 1), (2, 2, 2), (2, 1, 0), (0, 2, 2)):
             for high, low in itertools.product(pool, repeat=2):
                 value = (high, low)
-                self.assertSame(bar_error(row, value), told_error(row, value), value)
+                self.assertSame(bar_error(row, value), told_bar_error(row, value), value)
 
     def test_in_both(self):
         for both in ((0,), (1,), (0, 1), (1, 2), (0, 1, 2, 3)):
@@ -199,7 +177,7 @@ class BarError(Case):
     def test_values_of_all_kinds(self):
         for row in ((3, 3, 1, 1), (1, 0), (9,) * 10):
             for value in values_of_all_kinds() + strings_of_all_kinds() + [nested(3), (nested(5), ())]:
-                self.assertSame(bar_error(row, value), told_error(row, value), repr(value)[:80])
+                self.assertSame(bar_error(row, value), told_bar_error(row, value), repr(value)[:80])
 
     def test_form_ahead_of_little_and_even(self):
         self.assertSame(bar_error((2, 2, 2, 2), ((1, 0), ())), "form")

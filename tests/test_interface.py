@@ -50,6 +50,21 @@ FUNCTIONS = {
         "number_of_set": ["many", "chosen"],
         "web_for": ["many", "chosen"],
     },
+    "marks": {"mark": ["one", "other"], "joined": ["one", "other"]},
+    "locks": {
+        "trial_row": ["many", "chosen", "number", "c"],
+        "locked": ["many", "chosen"],
+        "thrice": ["many", "chosen", "number"],
+        "lock_paper": ["many", "chosen", "number"],
+        "lock_error": ["many", "chosen", "number", "value"],
+    },
+    "classes": {
+        "holders": ["web"],
+        "class_of": ["web"],
+        "classes_of": ["many", "chosen"],
+        "class_count": ["many"],
+        "class_web": ["many", "chosen", "people"],
+    },
 }
 BOUNDS = {
     "MAX_PEOPLE": 10,

@@ -32,14 +32,6 @@ def told_error(many, value):
     return "ends" if {0, many - 1} <= set(value) else None
 
 
-class Fits(Case):
-
-    def assertUnfit(self, call, *args):
-        with self.assertRaises(Unfit, msg=repr(args)[:80]) as caught:
-            call(*args)
-        self.assertIs(type(caught.exception), Unfit)
-
-
 class OddSet(Case):
 
     def test_example(self):
@@ -138,7 +130,7 @@ class SetError(Case):
             self.assertSame(set_error(many, (-2, 0)), "form")
 
 
-class Numbers(Fits):
+class Numbers(Case):
 
     def test_example(self):
         self.assertSame([set_count(many) for many in (2, 3, 4, 5, 6, 20)], [1, 2, 3, 6, 12, 196608])
@@ -233,7 +225,7 @@ class Numbers(Fits):
         self.assertUnfit(number_of_set, 1000, (0, 1000))
 
 
-class WebFor(Fits):
+class WebFor(Case):
 
     def check(self, many, chosen):
         web = web_for(many, chosen)
@@ -267,7 +259,7 @@ class WebFor(Fits):
             self.assertUnfit(web_for, 7, value)
 
 
-class Calls(Fits):
+class Calls(Case):
 
     def test_by_name(self):
         self.assertSame(odd_set(web=STAR), (1, 3))
