@@ -1,18 +1,18 @@
 """holders, class_of, classes_of, class_count and class_web."""
 
 import copy
-import functools
 import itertools
 import math
 import unittest
 
 from oddlines.bounds import MAX_SPREAD
 from oddlines.classes import class_count, class_of, class_web, classes_of, holders
-from oddlines.deeds import done, draws, exchanges, strikes
+from oddlines.deeds import done, draws, strikes
 from oddlines.errors import TooMany, Unfit
 from oddlines.locks import locked
 from oddlines.oddsets import odd_set
 from oddlines.webs import contrary, renamed
+from pairs import deeds_in, joined_lots
 from support import (
     PAIR, PATH, SQUARE, STAR, Case, all_odd_sets, all_webs, empty_web, full_web, is_web, orders_to_try, sample_webs,
     strings_of_all_kinds, told_class, told_locked, told_numbers, values_of_all_kinds,
@@ -23,26 +23,6 @@ def some_webs():
     """All webs of two people to five, and some of six to ten."""
     webs = [web for many in range(2, 6) for web in all_webs(many)]
     return webs + [web for many in range(6, 11) for web in sample_webs(many, 60)]
-
-
-def deeds_in(web):
-    return draws(web) + strikes(web) + exchanges(web)
-
-
-@functools.cache
-def joined_lots(many):
-    """All webs of so many people, in lots of those that deeds lead from one to another."""
-    left, lots = dict.fromkeys(all_webs(many)), []
-    while left:
-        lot = [left.popitem()[0]]
-        for web in lot:
-            for deed in deeds_in(web):
-                behind = done(web, deed)
-                if behind in left:
-                    del left[behind]
-                    lot.append(behind)
-        lots.append(lot)
-    return lots
 
 
 def all_people(many, size):

@@ -5,6 +5,7 @@ import unittest
 from oddlines.deeds import back, deed_error, done, draws, exchanges, led, strikes, turned
 from oddlines.oddsets import odd_set
 from oddlines.webs import contrary, numbers, renamed
+from pairs import deeds_in
 from support import (
     PATH, SQUARE, STAR, Case, all_deeds, all_webs, empty_web, full_web, orders_to_try, run_from, sample_webs,
     told_can, webs_to_try,
@@ -21,10 +22,6 @@ def some_webs():
     return [web for many in (2, 3, 4) for web in all_webs(many)] + [
         web for many in range(5, 11) for web in sample_webs(many, 3)
     ]
-
-
-def deeds_in(web):
-    return draws(web) + strikes(web) + exchanges(web)
 
 
 class Examples(Case):

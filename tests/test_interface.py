@@ -8,6 +8,7 @@ import unittest
 
 import oddlines
 from oddlines import bounds, errors
+from oddlines.desks import Desk
 
 FUNCTIONS = {
     "webs": {
@@ -51,6 +52,11 @@ FUNCTIONS = {
         "web_for": ["many", "chosen"],
     },
     "marks": {"mark": ["one", "other"], "joined": ["one", "other"]},
+    "joining": {
+        "way": ["one", "other"],
+        "paper": ["one", "other"],
+        "paper_error": ["one", "other", "value"],
+    },
     "locks": {
         "trial_row": ["many", "chosen", "number", "c"],
         "locked": ["many", "chosen"],
@@ -65,7 +71,34 @@ FUNCTIONS = {
         "class_count": ["many"],
         "class_web": ["many", "chosen", "people"],
     },
+    "spreads": {
+        "spreads": ["many", "chosen"],
+        "fewest": ["many", "chosen"],
+        "most": ["many", "chosen"],
+        "may_have": ["web", "person"],
+        "way_to": ["web", "person", "number"],
+    },
+    "desks": {"desk_behind": ["web", "log"]},
 }
+CLASSES = {
+    "desks": {
+        "Desk": {
+            "__init__": ["web"],
+            "draw": ["a", "b"],
+            "strike": ["a", "b"],
+            "exchange": ["a", "b", "c", "e"],
+            "undo": [],
+            "redo": [],
+            "at": ["version"],
+            "copy": [],
+            "may": ["a", "b"],
+            "way_to": ["web"],
+            "__eq__": ["other"],
+        },
+    },
+    "shells": {"Shell": {"__init__": [], "say": ["line"]}},
+}
+PROPERTIES = ["web", "numbers", "odd_set", "holders", "version", "log"]
 BOUNDS = {
     "MAX_PEOPLE": 10,
     "MAX_SPREAD": 7,
@@ -92,15 +125,33 @@ class Interface(unittest.TestCase):
             self.assertIs(type(getattr(bounds, name)), int, name)
             self.assertEqual(getattr(bounds, name), wanted, name)
 
+    def check_arguments(self, told, wanted, name):
+        kinds = inspect.signature(told).parameters.values()
+        self.assertEqual([kind.name for kind in kinds], wanted, name)
+        for kind in kinds:
+            self.assertEqual(kind.kind, inspect.Parameter.POSITIONAL_OR_KEYWORD, name)
+            self.assertEqual(kind.default, inspect.Parameter.empty, name)
+
     def test_functions_take_the_arguments_told_in_the_order_told(self):
         for module, functions in FUNCTIONS.items():
             for name, wanted in functions.items():
                 told = getattr(importlib.import_module("oddlines." + module), name)
-                kinds = inspect.signature(told).parameters.values()
-                self.assertEqual([kind.name for kind in kinds], wanted, name)
-                for kind in kinds:
-                    self.assertEqual(kind.kind, inspect.Parameter.POSITIONAL_OR_KEYWORD, name)
-                    self.assertEqual(kind.default, inspect.Parameter.empty, name)
+                self.check_arguments(told, wanted, name)
+
+    def test_methods_are_defined_in_their_classes_and_take_the_arguments_told(self):
+        for module, classes in CLASSES.items():
+            for name, methods in classes.items():
+                self.assertIn(name, defined_in(module + ".py", ast.ClassDef))
+                told = getattr(importlib.import_module("oddlines." + module), name)
+                for method, wanted in methods.items():
+                    self.assertIn(method, vars(told), name)
+                    self.check_arguments(vars(told)[method], ["self", *wanted], method)
+
+    def test_what_is_read_of_a_desk_are_properties_of_its_class(self):
+        for name in PROPERTIES:
+            self.assertIsInstance(vars(Desk)[name], property, name)
+            with self.assertRaises(AttributeError):
+                setattr(Desk((2, ())), name, None)
 
     def test_functions_are_defined_where_they_are_listed(self):
         for module, functions in FUNCTIONS.items():

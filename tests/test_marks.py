@@ -1,60 +1,23 @@
 """mark and joined: what shows that no deeds lead from one web to another."""
 
 import itertools
-import random
 import unittest
 
 from oddlines.classes import class_of, class_web
-from oddlines.deeds import done, draws, exchanges, strikes
+from oddlines.deeds import done
 from oddlines.exchanging import by_exchanges
 from oddlines.locks import locked
 from oddlines.marks import joined, mark
 from oddlines.oddsets import odd_set, web_for
 from oddlines.rows import web_with
 from oddlines.webs import contrary, renamed
+from pairs import deeds_in, drawn_pairs, told_mark, wandered
 from support import (
-    PAIR, PATH, SQUARE, STAR, Case, all_odd_sets, all_webs, empty_web, full_web, orders_to_try, sample_webs, told_class,
-    told_locked, told_numbers, told_odd_set,
+    EMPTY, OTHER_STAR, PAIR, PATH, SQUARE, STAR, Case, all_odd_sets, all_webs, empty_web, full_web, orders_to_try,
+    sample_webs, told_class, told_numbers,
 )
 
-EMPTY, THREE = (4, ()), (4, ((0, 1), (0, 2), (1, 2)))
-OTHER_STAR = (4, ((0, 1), (1, 2), (1, 3)))
-
-
-def told_mark(one, other):
-    """The first mark that [F1] and [F2] tell, by the rows of all webs."""
-    many, chosen, people = told_class(one)
-    other_many, other_chosen, other_people = told_class(other)
-    if many != other_many:
-        return "many"
-    for number in range(many):
-        if (number in chosen) != (number in other_chosen):
-            return ("odd", number)
-    for place, number in enumerate(told_locked(many, chosen)):
-        if people[place] != other_people[place]:
-            return ("holder", number)
-    return None
-
-
-def wandered(web, count, seed):
-    """A web that some deeds, as they come, lead to from web."""
-    chance = random.Random(seed)
-    for _ in range(count):
-        deeds = chance.choice((draws, strikes, exchanges))(web)
-        web = done(web, chance.choice(deeds)) if deeds else web
-    return web
-
-
-def drawn_pairs():
-    """Pairs of webs of two people to ten: drawn ones, of one odd set, and behind deeds of each other."""
-    pairs = []
-    for many in range(2, 11):
-        webs = sample_webs(many, 12)
-        pairs += list(itertools.product(webs, repeat=2))
-        pairs += [(web, wandered(web, 12, seed)) for seed, web in enumerate(webs)]
-        pairs += [(web, web_for(many, told_odd_set(web))) for web in webs]
-        pairs += [(web, renamed(web, order)) for web in webs for order in orders_to_try(many)]
-    return pairs
+THREE = (4, ((0, 1), (0, 2), (1, 2)))
 
 
 class Examples(Case):
@@ -144,7 +107,7 @@ class WhatHolds(Case):
 
     def test_each_deed_joins(self):
         for web in all_webs(4) + [web for many in range(5, 11) for web in sample_webs(many, 3)]:
-            deeds = draws(web) + strikes(web) + exchanges(web)
+            deeds = deeds_in(web)
             for deed in deeds[::1 + len(deeds) // 30]:
                 self.assertIs(joined(web, done(web, deed)), True)
                 self.assertIs(joined(done(web, deed), web), True)
@@ -154,7 +117,7 @@ class WhatHolds(Case):
             for web in all_webs(many):
                 found = [web]
                 for one in found:
-                    behind = [done(one, deed) for deed in draws(one) + strikes(one) + exchanges(one)]
+                    behind = [done(one, deed) for deed in deeds_in(one)]
                     found += [other for other in behind if other not in found]
                 self.assertEqual({other for other in all_webs(many) if joined(web, other)}, set(found))
 
